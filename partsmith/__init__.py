@@ -1,0 +1,1 @@
+"""Partsmith: a score for several players cut into parts."""
