@@ -101,6 +101,14 @@ def instrument_at(score, player, bar):
     return instrument
 
 
+def turn_at(score, player, bar):
+    """The turn of the instrument that a player holds at a bar."""
+    instrument = instrument_at(score, player, bar)
+    if instrument is None:
+        return (0, 0)
+    return score.instruments[instrument][0]
+
+
 def notes_played(score, player):
     """A player's notes as played: the place of the bar taken, the note's beginning, its end and the instrument."""
     notes = []
