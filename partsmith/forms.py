@@ -193,9 +193,14 @@ READERS = {
 }
 
 
+def is_score_word(word):
+    """Whether rows that begin with the word are a score's."""
+    return word in READERS
+
+
 def read_row(words):
     """What a row of these words, one at least, tells; None where it has none of the forms."""
-    if words[0] not in READERS:
+    if not is_score_word(words[0]):
         return None
     reader = READERS[words[0]]
     return reader(words[1:])
